@@ -1,6 +1,10 @@
 package tree
 
-import "strings"
+import (
+	"strings"
+
+	"gantline/part"
+)
 
 const mostAbove = 199 // nodes above one that is written
 
@@ -11,11 +15,13 @@ type writer struct {
 }
 
 func (w writer) node(n Node) {
-	if w.above > mostAbove || !fits(n) {
+	if w.above > mostAbove || !part.Fits(n.Kind, n.Kids, kindOf) {
 		return
 	}
 	w.fill(n, pattern(n))
 }
+
+func kindOf(n Node) string { return n.Kind }
 
 // fill writes a node by its pattern.
 func (w writer) fill(n Node, pattern string) {
@@ -96,7 +102,7 @@ func pattern(n Node) string {
 	case "fn":
 		return without(n.Kids[0], "func(*)", "func(*) 0")
 	}
-	if isExpression(n.Kind) {
+	if part.IsExpression(n.Kind) {
 		return ofExpression(n)
 	}
 	return ofStatement(n)

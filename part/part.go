@@ -1,4 +1,7 @@
-package tree
+// Package part has the table of chapter 20: the Kinds of the nodes of a program, and which kids each of them has.
+package part
+
+import "strings"
 
 // part is what a row of the chapter's table names where a kid stands.
 type part int
@@ -19,58 +22,89 @@ const (
 	call
 )
 
-// fits tells whether a node is of a Kind that the table has, with such kids as its row names.
-func fits(n Node) bool {
-	switch n.Kind {
+// Fits tells whether a node is of a Kind that the table has, with such kids as its row names.
+func Fits[Node any](kind string, kids []Node, kindOf func(Node) string) bool {
+	var kinds []string
+	for _, kid := range kids {
+		kinds = append(kinds, kindOf(kid))
+	}
+	return fits(kind, kinds)
+}
+
+func fits(kind string, kids []string) bool {
+	switch kind {
 	case "none", "int", "bool", "named", "number", "true", "false", "name", "new":
-		return are(n.Kids)
+		return are(kids)
 	case "program":
-		return all(n.Kids, declaration)
+		return all(kids, declaration)
 	case "struct":
-		return all(n.Kids, field)
+		return all(kids, field)
 	case "params":
-		return all(n.Kids, param)
+		return all(kids, param)
 	case "block":
-		return all(n.Kids, statement)
+		return all(kids, statement)
 	case "select":
-		return all(n.Kids, choice)
+		return all(kids, choice)
 	case "field", "global", "param", "list", "chan", "nil":
-		return are(n.Kids, typ)
+		return are(kids, typ)
 	case "func", "lambda":
-		return are(n.Kids, params, typOrNone, block)
+		return are(kids, params, typOrNone, block)
 	case "fn":
-		return len(n.Kids) > 0 && are(n.Kids[:1], typOrNone) && all(n.Kids[1:], typ)
+		return len(kids) > 0 && are(kids[:1], typOrNone) && all(kids[1:], typ)
 	case "let", "make":
-		return are(n.Kids, typ, expression)
+		return are(kids, typ, expression)
 	case "if":
-		return are(n.Kids, expression, block, blockOrNone)
+		return are(kids, expression, block, blockOrNone)
 	case "while", "onrecv":
-		return are(n.Kids, expression, block)
+		return are(kids, expression, block)
 	case "onsend":
-		return are(n.Kids, expression, expression, block)
+		return are(kids, expression, expression, block)
 	case "default":
-		return are(n.Kids, block)
+		return are(kids, block)
 	case "return":
-		return are(n.Kids, expressionOrNone)
+		return are(kids, expressionOrNone)
 	case "go":
-		return are(n.Kids, call)
+		return are(kids, call)
 	case "print", "close", "do", "unary", "dot", "len", "recv":
-		return are(n.Kids, expression)
+		return are(kids, expression)
 	case "set", "send", "binary", "index":
-		return are(n.Kids, expression, expression)
+		return are(kids, expression, expression)
 	case "call":
-		return len(n.Kids) > 0 && all(n.Kids, expression)
+		return len(kids) > 0 && all(kids, expression)
+	}
+	return false
+}
+
+// Says tells whether a node of a Kind may have such a Text: a name, digits, a sign, or nothing, as its row names.
+func Says(kind, text string) bool {
+	switch kind {
+	case "struct", "field", "global", "func", "param", "named", "let", "onrecv", "name", "dot", "new":
+		return text != ""
+	case "number":
+		return text != "" && strings.Trim(text, "0123456789") == ""
+	case "binary":
+		return isBinary(text)
+	case "unary":
+		return text == "-" || text == "!"
+	}
+	return text == ""
+}
+
+func isBinary(sign string) bool {
+	switch sign {
+	case "+", "-", "*", "/", "%", "&", "|", "^", "<<", ">>", "<", "<=", ">", ">=", "==", "!=", "&&", "||":
+		return true
 	}
 	return false
 }
 
 // are tells whether kids are just these parts.
-func are(kids []Node, parts ...part) bool {
+func are(kids []string, parts ...part) bool {
 	if len(kids) != len(parts) {
 		return false
 	}
 	for i, p := range parts {
-		if !p.takes(kids[i].Kind) {
+		if !p.takes(kids[i]) {
 			return false
 		}
 	}
@@ -78,9 +112,9 @@ func are(kids []Node, parts ...part) bool {
 }
 
 // all tells whether each of the kids is such a part.
-func all(kids []Node, p part) bool {
+func all(kids []string, p part) bool {
 	for _, kid := range kids {
-		if !p.takes(kid.Kind) {
+		if !p.takes(kid) {
 			return false
 		}
 	}
@@ -111,9 +145,9 @@ func (p part) takes(kind string) bool {
 	case choice:
 		return kind == "onrecv" || kind == "onsend" || kind == "default"
 	case expression:
-		return isExpression(kind)
+		return IsExpression(kind)
 	case expressionOrNone:
-		return kind == "none" || isExpression(kind)
+		return kind == "none" || IsExpression(kind)
 	case call:
 		return kind == "call"
 	}
@@ -136,7 +170,8 @@ func isStatement(kind string) bool {
 	return false
 }
 
-func isExpression(kind string) bool {
+// IsExpression tells whether nodes of a Kind are expressions.
+func IsExpression(kind string) bool {
 	switch kind {
 	case "number", "true", "false", "nil", "name", "binary", "unary", "call", "index", "dot", "new", "make", "len", "recv", "lambda":
 		return true
