@@ -8,6 +8,11 @@ import (
 	"gantline/tree"
 )
 
+// The chapter's example.
+func TestExample(t *testing.T) {
+	wantFaults(t, "func main() { print @true; }")
+}
+
 // P22.1, 1: a struct's, a global's or a func's name once among all of them, at the second one.
 func TestNamesOnce(t *testing.T) {
 	of := []string{"struct x { }", "var x int;", "func x() { }"}
